@@ -7,6 +7,7 @@ import (
 
 	"caliper/api"
 	"caliper/choice"
+	"caliper/nat"
 )
 
 func TestKnown(t *testing.T) {
@@ -67,6 +68,59 @@ func TestFarther(t *testing.T) {
 		}
 		if !slices.Equal(got, want) {
 			t.Error(c, got)
+		}
+	}
+}
+
+// Each row is a fraction, and the whole number that it is rounded to in each direction, as it is and with the sign.
+func TestWhole(t *testing.T) {
+	for _, c := range []struct {
+		num, den    []uint64
+		plus, minus [5]uint64
+		exact       bool
+	}{
+		{nil, []uint64{3}, [5]uint64{0, 0, 0, 0, 0}, [5]uint64{0, 0, 0, 0, 0}, true},
+		{[]uint64{6}, []uint64{3}, [5]uint64{2, 2, 2, 2, 2}, [5]uint64{2, 2, 2, 2, 2}, true},
+		{[]uint64{1}, []uint64{3}, [5]uint64{0, 0, 0, 1, 0}, [5]uint64{0, 0, 0, 0, 1}, false},
+		{[]uint64{1}, []uint64{2}, [5]uint64{0, 1, 0, 1, 0}, [5]uint64{0, 1, 0, 0, 1}, false},
+		{[]uint64{2, 0}, []uint64{3, 0}, [5]uint64{1, 1, 0, 1, 0}, [5]uint64{1, 1, 0, 0, 1}, false},
+		{[]uint64{3}, []uint64{2}, [5]uint64{2, 2, 1, 2, 1}, [5]uint64{2, 2, 1, 1, 2}, false},
+		{[]uint64{5}, []uint64{2}, [5]uint64{2, 3, 2, 3, 2}, [5]uint64{2, 3, 2, 2, 3}, false},
+		{[]uint64{1, 5}, []uint64{0, 2}, [5]uint64{3, 3, 2, 3, 2}, [5]uint64{3, 3, 2, 2, 3}, false},
+	} {
+		for direction := api.Even; direction <= api.Down; direction++ {
+			plus, exact := choice.Whole(direction, false, c.num, c.den)
+			minus, also := choice.Whole(direction, true, c.num, c.den)
+			if !same(plus, c.plus[direction]) || !same(minus, c.minus[direction]) || exact != c.exact || also != c.exact {
+				t.Error(c, direction, plus, minus, exact, also)
+			}
+		}
+	}
+}
+
+// same says whether a natural is a word.
+func same(natural []uint64, word uint64) bool { return nat.Cmp(natural, []uint64{word}) == 0 }
+
+// A whole number may have one word more than what it was rounded from.
+func TestWholeCarries(t *testing.T) {
+	num := []uint64{math.MaxUint64, 1}
+	if whole, exact := choice.Whole(api.Even, false, num, []uint64{2}); !slices.Equal(whole, []uint64{0, 1}) || exact {
+		t.Error(whole, exact)
+	}
+}
+
+func TestFlags(t *testing.T) {
+	for _, c := range []struct {
+		exact, small bool
+		flags        int
+	}{
+		{true, false, 0},
+		{true, true, 0},
+		{false, false, api.Inexact},
+		{false, true, api.Underflow + api.Inexact},
+	} {
+		if flags := choice.Flags(c.exact, c.small); flags != c.flags {
+			t.Error(c, flags)
 		}
 	}
 }
